@@ -83,7 +83,9 @@ func read(t *testing.T, s string) api.Value {
 }
 
 // told tells a head of anything.
-func told(x any) string { return fmt.Sprintf("%.300s", strings.ToValidUTF8(fmt.Sprintf("%+v", x), "?")) }
+func told(x any) string {
+	return fmt.Sprintf("%.300s", strings.ToValidUTF8(fmt.Sprintf("%+v", x), "?"))
+}
 
 // toldLeaves tells a head of leaves.
 func toldLeaves(l []flat.Leaf) string {
